@@ -1,0 +1,1 @@
+"""Mendsure: tables that break their own rules."""
