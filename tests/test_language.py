@@ -44,6 +44,15 @@ def nodes():
             yield f"{path.name}:{getattr(node, 'lineno', 0)}", node
 
 
+def bound_at_top(tree):
+    """The classes and imports of a file."""
+    names = [node.name for node in tree.body if isinstance(node, ast.ClassDef)]
+    for node in tree.body:
+        if isinstance(node, ast.ImportFrom):
+            names.extend([alias.asname or alias.name for alias in node.names])
+    return names
+
+
 def draws_from(path):
     for node in ast.walk(ast.parse(path.read_text())):
         if isinstance(node, ast.ImportFrom):
@@ -138,6 +147,36 @@ class TestForms(unittest.TestCase):
                 self.assertNotIn(node.arg, dir(builtins), where)
             if isinstance(node, (ast.FunctionDef, ast.ClassDef)):
                 self.assertTrue(node.name in DOUBLE or not node.name.startswith("_"), where)
+
+    def test_no_local_is_called_like_a_class_or_an_import(self):
+        for path in files():
+            tree = ast.parse(path.read_text())
+            for node in ast.walk(tree):
+                if isinstance(node, ast.arg):
+                    self.assertNotIn(node.arg, bound_at_top(tree), f"{path.name}:{node.lineno}")
+                if isinstance(node, ast.Name) and isinstance(node.ctx, ast.Store):
+                    self.assertNotIn(node.id, bound_at_top(tree), f"{path.name}:{node.lineno}")
+
+    def test_is_stands_beside_none_and_truths(self):
+        for where, node in nodes():
+            if isinstance(node, ast.Compare) and isinstance(node.ops[0], (ast.Is, ast.IsNot)):
+                right = node.comparators[0]
+                self.assertTrue(isinstance(right, ast.Constant) and right.value in (None, True, False), where)
+
+    def test_no_set_is_kept_or_walked(self):
+        for where, node in nodes():
+            kept = node.value if isinstance(node, (ast.Assign, ast.Return)) else None
+            kept = node.iter if isinstance(node, (ast.For, ast.comprehension)) else kept
+            maker = kept.func if isinstance(kept, ast.Call) else None
+            made = isinstance(maker, ast.Name) and maker.id in ("set", "frozenset")
+            self.assertFalse(made or isinstance(kept, ast.Set), where)
+
+    def test_no_name_is_a_method_and_a_value(self):
+        methods = [part.name for where, node in nodes() if isinstance(node, ast.ClassDef) for part in node.body
+                   if isinstance(part, ast.FunctionDef)]
+        for where, node in nodes():
+            if isinstance(node, ast.Attribute) and isinstance(node.ctx, ast.Store):
+                self.assertNotIn(node.attr, methods, where)
 
     def test_methods(self):
         own = [node.name for where, node in nodes() if isinstance(node, ast.FunctionDef)]
