@@ -21,12 +21,9 @@ def pairs_of(rows):
     return pairs
 
 
-def have_same_key(tables, row, other):
-    """Whether two rows are of one table, and have the same key."""
-    if row[0] != other[0]:
-        return False
-    key = tables[row[0]][1]
-    return row[1][:key] == other[1][:key]
+def key_of(tables, row):
+    """A row's table and the cells of its key: rows for which these are the same never stand together."""
+    return (row[0], row[1][:tables[row[0]][1]])
 
 
 def breaks_of_one(book, rules, rows, i):
@@ -42,7 +39,7 @@ def breaks_of_two(book, rules, i, j):
     row = book[2][i]
     other = book[2][j]
     parted = [("apart", i, j, k) for k, rule in enumerate(rules) if rule.parts_them(row, other)]
-    if have_same_key(book[0], row, other):
+    if key_of(book[0], row) == key_of(book[0], other):
         parted.append(("key", i, j))
     return parted
 

@@ -6,6 +6,8 @@ from mendsure.values import in_order, is_name, is_value
 
 MOST_ATOMS = 4
 MOST_NAMES = 4
+# All bits of -1 are set, so it is the mark of what stands in every set of rows, however many there are.
+EVERYWHERE = -1
 
 
 def is_term(thing):
@@ -71,10 +73,10 @@ def fitting(terms, cells):
     return values
 
 
-def fits_of(rows, atom):
-    """The dicts of values by names with which an atom is one of the rows."""
-    fits = [fitting(atom[1], row[1]) for row in rows if row[0] == atom[0]]
-    return [values for values in fits if values is not None]
+def fits_of(rows, marks, atom):
+    """Of each row that an atom can be the dict of values by names with which it is this row, and the row's mark."""
+    fits = [(fitting(atom[1], row[1]), mark) for row, mark in zip(rows, marks) if row[0] == atom[0]]
+    return [(values, mark) for values, mark in fits if values is not None]
 
 
 def values_at(values, names):
@@ -83,29 +85,34 @@ def values_at(values, names):
 
 
 def cut(fits, names):
-    """What the fits say of these names alone, each once."""
+    """What the fits say of these names alone, each once, with all marks of those that say it."""
     told = {}
-    for values in fits:
-        told[values_at(values, names)] = True
-    return [dict(zip(names, some)) for some in told]
+    for values, mark in fits:
+        some = values_at(values, names)
+        told[some] = told.get(some, 0) | mark
+    return [(dict(zip(names, some)), mark) for some, mark in told.items()]
 
 
 def joined(fits, others, shared):
-    """Each fit together with each of the others that has the same values for the shared names."""
+    """Each fit together with each of the others that has the same values for the shared names, and marks in common."""
     by_shared = {}
-    for values in others:
-        by_shared.setdefault(values_at(values, shared), []).append(values)
+    for more, other in others:
+        by_shared.setdefault(values_at(more, shared), []).append((more, other))
     together = []
-    for values in fits:
-        for more in by_shared.get(values_at(values, shared), []):
-            both = dict(values)
-            both.update(more)
-            together.append(both)
+    for values, mark in fits:
+        for more, other in by_shared.get(values_at(values, shared), []):
+            if mark & other:
+                both = dict(values)
+                both.update(more)
+                together.append((both, mark & other))
     return together
 
 
-def answers(rows, question):
-    """The answers of a question in some rows, in their order, each once.
+def marked_answers(rows, marks, question):
+    """The answers of a question in several sets of rows at once, as a dict of their marks.
+
+    A mark is a number whose bits tell in which of the sets something stands. Rows have theirs; what several rows make
+    together stands where they all do, and an answer wherever one way to make it stands. So one walk does for all sets.
 
     The atoms are gone through one by one. A name that nothing behind asks for is cut off at once: else the fits would
     grow by as many times as there are rows for each atom.
@@ -113,13 +120,18 @@ def answers(rows, question):
     head = question[0]
     atoms = question[1]
     known = []
-    fits = [{}]
+    fits = [({}, EVERYWHERE)]
     for place, atom in enumerate(atoms):
         own = names_in([atom])
         shared = [name for name in own if name in known]
         asked = list(head) + names_in(atoms[place + 1:])
-        others = cut(fits_of(rows, atom), [name for name in own if name in shared or name in asked])
+        others = cut(fits_of(rows, marks, atom), [name for name in own if name in shared or name in asked])
         new = [name for name in own if name not in shared]
         known = [name for name in known + new if name in asked]
         fits = cut(joined(fits, others, shared), known)
-    return in_order([values_at(values, head) for values in fits])
+    return dict([(values_at(values, head), mark) for values, mark in fits])
+
+
+def answers(rows, question):
+    """The answers of a question in some rows, in their order, each once."""
+    return in_order(list(marked_answers(rows, [1 for row in rows], question)))

@@ -7,7 +7,8 @@ import unittest
 
 from mendsure.errors import MendError, NoQuestion
 from mendsure.questions import answers, question_of
-from mendsure.values import in_order
+
+from plain_search import plain_answers
 
 TABLES = [(2, 1), (3, 0), (1, 1)]
 GREATEST = int("9" * 30)
@@ -166,22 +167,6 @@ class TestNoHead(QuestionCase):
             self.check_refused(1, thing, [ATOM])
             self.check_refused(0, ["x"], thing)
             self.check_refused(0, thing, [None])
-
-
-def plain_answers(rows, question):
-    """The answers as point 15 defines them: all ways to make each atom a row are tried."""
-    head, atoms = question
-    found = []
-    for picked in itertools.product(rows, repeat=len(atoms)):
-        values = {}
-        fits = True
-        for (t, terms), (table, cells) in zip(atoms, picked):
-            fits = fits and t == table
-            for (word, thing), cell in zip(terms, cells):
-                fits = fits and (values.setdefault(thing, cell) if word == "var" else thing) == cell
-        if fits:
-            found.append(tuple([values[name] for name in head]))
-    return in_order(found)
 
 
 class TestAnswers(unittest.TestCase):
