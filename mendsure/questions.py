@@ -63,6 +63,13 @@ def question_of(tables, head, atoms):
     return (tuple(head), tuple(atoms))
 
 
+def term_with(term, values):
+    """A term, or the value that is told for its name."""
+    if term[0] == "var" and term[1] in values:
+        return ("is", values[term[1]])
+    return term
+
+
 def fitting(terms, cells):
     """The values by names with which the terms are these cells, as a dict, or None."""
     values = {}

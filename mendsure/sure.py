@@ -1,7 +1,7 @@
 """Sure answers, which stand in each mended book, and maybe ones, which stand in one at least."""
 
 from mendsure.mends import mended
-from mendsure.questions import marked_answers
+from mendsure.questions import marked_answers, term_with
 from mendsure.values import in_order
 
 
@@ -29,13 +29,6 @@ def sure(book, question):
 def maybe(book, question):
     """The maybe answers, in their order, each once."""
     return in_order(list(found_in(book, mended(book), question)))
-
-
-def term_with(term, values):
-    """A term, or the value that is told for its name."""
-    if term[0] == "var" and term[1] in values:
-        return ("is", values[term[1]])
-    return term
 
 
 def atom_with(atom, values):

@@ -80,11 +80,10 @@ def plain_answers(rows, question):
     """The answers as point 15 defines them: all ways to make each atom a row are tried."""
     head, atoms = question
     found = []
-    for picked in itertools.product(rows, repeat=len(atoms)):
+    for picked in itertools.product(*[[cells for table, cells in rows if table == t] for t, terms in atoms]):
         values = {}
         fits = True
-        for (t, terms), (table, cells) in zip(atoms, picked):
-            fits = fits and t == table
+        for (t, terms), cells in zip(atoms, picked):
             for (word, thing), cell in zip(terms, cells):
                 fits = fits and (values.setdefault(thing, cell) if word == "var" else thing) == cell
         if fits:
@@ -97,8 +96,73 @@ def plain_found(book, question):
     return [plain_answers([book[2][i] for i in rows], question) for rows in plain_mended(book)]
 
 
+def names_of(terms, head=()):
+    return {thing for word, thing in terms if word == "var" and thing not in head}
+
+
+def plain_known(tables, question, place):
+    """The least of all sets of names that are as point 21 asks, as a sorted list."""
+    head, atoms = question
+    parts = [(names_of(terms[:tables[t][1]], head), names_of(terms, head)) for t, terms in atoms]
+    names = sorted(set().union(*[own for key, own in parts]))
+    others = parts[:place] + parts[place + 1:]
+    closed = []
+    for some in map(set, all_sets(names)):
+        if parts[place][0] <= some and all(own <= some for key, own in others if key <= some):
+            closed.append(some)
+    return sorted(set.intersection(*closed))
+
+
+def plain_sways(tables, question):
+    """The pairs of which the first one sways the second: all lists of atoms between them are tried."""
+    head, atoms = question
+    found = set()
+    for many in range(2, len(atoms) + 1):
+        for way in itertools.permutations(range(len(atoms)), many):
+            learnt = set(plain_known(tables, question, way[0]))
+            steps = [names_of(atoms[a][1], head) & names_of(atoms[b][1], head) for a, b in zip(way, way[1:])]
+            if all(step - learnt for step in steps):
+                found.add((way[0], way[-1]))
+    return sorted(found)
+
+
+def is_ring(pairs, some):
+    """Whether some numbers are a ring by these pairs."""
+    steps = zip(some, some[1:] + some[:1])
+    return len(some) >= 2 and len(set(some)) == len(some) and all(step in pairs for step in steps)
+
+
+def plain_rings(tables, question):
+    """All rings of two or more atoms."""
+    pairs = plain_sways(tables, question)
+    numbers = range(len(question[1]))
+    lists = [list(some) for many in numbers for some in itertools.permutations(numbers, many + 1)]
+    return [some for some in lists if is_ring(pairs, some)]
+
+
+def plain_fit(terms, cells, values):
+    """The values with which a row fits terms, those that were there among them, or None."""
+    grown = dict(values)
+    for (word, thing), cell in zip(terms, cells):
+        if (grown.setdefault(thing, cell) if word == "var" else thing) != cell:
+            return None
+    return grown
+
+
+def plain_holds(formula, rows, values):
+    """Whether a formula holds, word by word as point 23 says."""
+    if formula == ("yes",):
+        return True
+    if formula[0] == "same":
+        one, other = [thing if word == "is" else values[thing] for word, thing in formula[1:3]]
+        return one == other and plain_holds(formula[3], rows, values)
+    fits = [plain_fit(formula[2], cells, values) for t, cells in rows if t == formula[1]]
+    found = [plain_holds(formula[3], rows, grown) for grown in fits if grown is not None]
+    return any(found) if formula[0] == "some" else all(found)
+
+
 class Chance:
-    """Books and questions by chance, the same ones each time."""
+    """Books, questions and formulas by chance, the same ones each time."""
 
     def __init__(self, seed):
         self.chance = random.Random(seed)
@@ -139,10 +203,10 @@ class Chance:
             rows[(t, tuple([self.chance.choice(VALUES) for cell in range(tables[t][0])]))] = True
         return book_of(tables, rules, list(rows))
 
-    def term(self, things):
-        if self.chance.random() < 0.2:
+    def term(self, things, names="vwxyz", share=0.2):
+        if self.chance.random() < share:
             return ("is", self.chance.choice(things))
-        return ("var", self.chance.choice("vwxyz"))
+        return ("var", self.chance.choice(names))
 
     def question(self, tables, most_atoms, things=VALUES):
         atoms = []
@@ -151,3 +215,48 @@ class Chance:
             atoms.append((t, tuple([self.term(things) for term in range(tables[t][0])])))
         names = sorted({thing for t, terms in atoms for word, thing in terms if word == "var"})
         return question_of(tables, self.chance.sample(names, self.chance.randint(0, min(4, len(names)))), atoms)
+
+    def single_question(self, many, most_head):
+        """Tables, and a question of so many atoms, each of a table of its own."""
+        # Rings need tables with cells behind their keys, so half of the questions have no others.
+        some = [(2, 1), (2, 1), (3, 1), (3, 2)] + self.chance.choice(([], [(1, 0), (1, 1), (2, 0), (2, 2), (3, 3)]))
+        tables = [self.chance.choice(some) for table in range(self.chance.randint(many, 4))]
+        names = self.chance.choice(("uvwxyz", "vwxyz"))
+        atoms = []
+        for t in self.chance.sample(range(len(tables)), many):
+            atoms.append((t, tuple([self.term([0, 1], names, 0.1) for term in range(tables[t][0])])))
+        standing = sorted(set().union(*[names_of(terms) for t, terms in atoms]))
+        head = self.chance.sample(standing, self.chance.randint(0, min(most_head, len(standing))))
+        return tuple(tables), question_of(tables, head, atoms)
+
+    def planted_book(self, tables, question, most_rows):
+        """A plain book in which the question's atoms are made rows now and then, so that it has answers at times."""
+        rows = {}
+        while len(rows) < most_rows and self.chance.random() < 0.85:
+            values = {name: self.chance.choice([0, 1]) for t, terms in question[1] for name in sorted(names_of(terms))}
+            for t, terms in question[1]:
+                cells = [values[thing] if word == "var" else thing for word, thing in terms]
+                if self.chance.random() < 0.15:
+                    cells[self.chance.randrange(len(cells))] = self.chance.choice([0, 1, "a"])
+                rows[(t, tuple(cells))] = True
+        picked = list(rows)[:most_rows]
+        self.chance.shuffle(picked)
+        return book_of(tables, [], picked)
+
+    def formula(self, tables, named, most_parts):
+        """A formula of at most so many parts; the names of a same have a value already."""
+        named = list(named)
+        parts = []
+        for part in range(self.chance.randint(0, most_parts)):
+            if self.chance.random() < 0.25:
+                sides = [("is", thing) for thing in VALUES] + [("var", name) for name in named] * 4
+                parts.append(("same", self.chance.choice(sides), self.chance.choice(sides)))
+            else:
+                t = self.chance.randrange(len(tables))
+                terms = tuple([self.term(VALUES) for term in range(tables[t][0])])
+                parts.append((self.chance.choice(("some", "each")), t, terms))
+                named.extend(sorted(names_of(terms)))
+        formula = ("yes",)
+        for part in reversed(parts):
+            formula = part + (formula,)
+        return formula

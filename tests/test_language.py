@@ -137,6 +137,22 @@ class TestForms(unittest.TestCase):
             if isinstance(node, ast.BinOp) and isinstance(node.op, ast.Pow):
                 self.assertTrue(isinstance(node.right, ast.Constant) and 0 <= node.right.value <= 64, where)
 
+    def test_texts_with_names_in_them(self):
+        for where, node in nodes():
+            if isinstance(node, ast.FormattedValue):
+                self.assertIsInstance(node.value, ast.Name, where)
+                self.assertIsNone(node.format_spec, where)
+                self.assertIn(node.conversion, (-1, ord("r")), where)
+            if isinstance(node, ast.Constant) and isinstance(node.value, str):
+                self.assertNotIn("%", node.value, where)
+
+    def test_walked_at_once(self):
+        for where, node in nodes():
+            kept = node.value if isinstance(node, (ast.Assign, ast.Return)) else None
+            if isinstance(kept, ast.Call):
+                maker = kept.func.attr if isinstance(kept.func, ast.Attribute) else kept.func.id
+                self.assertNotIn(maker, ("zip", "enumerate", "reversed", "range", "items", "keys", "values"), where)
+
     def test_names(self):
         for where, node in nodes():
             if isinstance(node, ast.Name):
